@@ -1,0 +1,1 @@
+"""Bondwords: letters that undo themselves, and their bonds."""

@@ -1,0 +1,59 @@
+"""The interface: each name stands in its own file, with the parameters that are listed."""
+
+import ast
+import unittest
+from pathlib import Path
+
+PACKAGE = Path(__file__).resolve().parent.parent / "bondwords"
+
+ERRORS = {
+    "BondError": None, "BadBonds": "place", "BadWord": "place", "BadRow": "value", "BadDeed": "place",
+    "BadNumber": "value", "Unlike": None, "TooGreat": "most", "BadChoice": "value", "BadText": "place",
+    "NothingLeft": None, "Endless": None,
+}
+METHODS = {
+    "bonds": {"Bonds": {
+        "__init__": ["self", "rows"], "__len__": ["self"], "__eq__": ["self", "other"],
+        "bond": ["self", "one", "other"], "weight": ["self", "one", "other"],
+    }},
+    "errors": {name: {"__init__": ["self", field]} if field else {} for name, field in ERRORS.items()},
+}
+FUNCTIONS = {
+    "rows": {
+        "press": ["bonds", "row", "letter"], "row_of": ["bonds", "word"], "word_of": ["bonds", "row"],
+        "length": ["bonds", "word"], "alike": ["bonds", "one", "other"], "firsts": ["bonds", "word"],
+        "lasts": ["bonds", "word"],
+    },
+}
+
+
+def tree_of(name):
+    return ast.parse((PACKAGE / f"{name}.py").read_text())
+
+
+def parameters(body):
+    """The parameters of each function that a body defines."""
+    return {node.name: [arg.arg for arg in node.args.args] for node in body if isinstance(node, ast.FunctionDef)}
+
+
+class InterfaceTest(unittest.TestCase):
+
+    def test_functions(self):
+        for name, functions in FUNCTIONS.items():
+            found = parameters(tree_of(name).body)
+            for function, names in functions.items():
+                with self.subTest(name, function=function):
+                    self.assertEqual(found.get(function), names)
+
+    def test_classes_and_methods(self):
+        for name, classes in METHODS.items():
+            found = {node.name: node for node in tree_of(name).body if isinstance(node, ast.ClassDef)}
+            for kind, methods in classes.items():
+                with self.subTest(name, kind=kind):
+                    self.assertIn(kind, found)
+                    told = parameters(found[kind].body)
+                    self.assertEqual({method: told.get(method) for method in methods}, methods)
+
+
+if __name__ == "__main__":
+    unittest.main()
