@@ -102,6 +102,32 @@ class FormTest(unittest.TestCase):
                 if isinstance(node, ast.ImportFrom):
                     self.assertEqual({alias.name for alias in node.names} - used, set(), file)
 
+    def test_imports_form_no_ring(self):
+        ahead = {}
+        for file, text, tree in each():
+            imports = [node for node in tree.body if isinstance(node, ast.ImportFrom)]
+            ahead[file] = {node.module.split(".")[1] + ".py" for node in imports}
+        while ahead:
+            free = [file for file in ahead if not ahead[file] & set(ahead)]
+            self.assertNotEqual(free, [], ahead)
+            for file in free:
+                del ahead[file]
+
+    def test_names_are_bound_once(self):
+        for file, text, tree in each():
+            names = [node.name for node in tree.body if isinstance(node, (ast.FunctionDef, ast.ClassDef))]
+            names += [node.targets[0].id for node in tree.body if isinstance(node, ast.Assign)]
+            names += [alias.name for node in tree.body if isinstance(node, ast.ImportFrom) for alias in node.names]
+            self.assertEqual(len(names), len(set(names)), file)
+
+    def test_functions_bind_no_name_of_an_import_or_a_class(self):
+        for file, text, tree in each():
+            barred = {node.name for node in tree.body if isinstance(node, ast.ClassDef)}
+            barred |= {alias.name for node in tree.body if isinstance(node, ast.ImportFrom) for alias in node.names}
+            for node in ast.walk(tree):
+                if isinstance(node, ast.FunctionDef):
+                    self.assertEqual(set(bound_names(node)) & barred, set(), f"{file}: {node.name}")
+
     def test_module_level(self):
         allowed = (ast.ImportFrom, ast.FunctionDef, ast.ClassDef, ast.Assign)
         for file, text, tree in each():

@@ -24,7 +24,17 @@ FUNCTIONS = {
         "length": ["bonds", "word"], "alike": ["bonds", "one", "other"], "firsts": ["bonds", "word"],
         "lasts": ["bonds", "word"],
     },
+    "deeds": {
+        "can": ["bonds", "word", "deed"], "done": ["bonds", "word", "deed"], "walked": ["bonds", "word", "deeds"],
+        "deeds_of": ["bonds", "word"], "back": ["bonds", "word", "deed"], "returned": ["bonds", "word", "deeds"],
+    },
+    "shortest": {
+        "is_shortest": ["bonds", "word"], "least_word": ["bonds", "word"], "to_shortest": ["bonds", "word"],
+        "turns_between": ["bonds", "one", "other"],
+    },
+    "papers": {"paper": ["bonds", "one", "other"], "is_paper": ["bonds", "one", "other", "value"]},
 }
+CONSTANTS = {"bonds": {"MOST_LETTERS": 6, "MOST_WORD": 60}, "shortest": {"MOST_LED": 16}}
 
 
 def tree_of(name):
@@ -44,6 +54,12 @@ class InterfaceTest(unittest.TestCase):
             for function, names in functions.items():
                 with self.subTest(name, function=function):
                     self.assertEqual(found.get(function), names)
+
+    def test_constants(self):
+        for name, constants in CONSTANTS.items():
+            found = [node for node in tree_of(name).body if isinstance(node, ast.Assign)]
+            told = {node.targets[0].id: ast.literal_eval(node.value) for node in found}
+            self.assertEqual({constant: told.get(constant) for constant in constants}, constants)
 
     def test_classes_and_methods(self):
         for name, classes in METHODS.items():

@@ -6,17 +6,9 @@ from itertools import product
 from bondwords.bonds import Bonds
 from bondwords.errors import BadNumber, BadRow, BadWord, TooGreat
 from bondwords.rows import alike, firsts, lasts, length, press, row_of, word_of
-from samples import BONDS, ONE, PAIRS, SIX, TRIPLES, WEIGHTS, shortest_alike, table, words
+from refusals import RefusalCase
+from samples import BONDS, GREAT, ONE, PAIRS, SIX, TRIPLES, WEIGHTS, shortest_alike, table, words
 
-GREAT = 10 ** 999
-NO_WORDS = (
-    (None, None), (0, None), (1, None), ("", None), ("12", None), (b"1", None), ({}, None), ({1}, None),
-    (range(1, 2), None), (iter([1]), None), (True, None), (Bonds(ONE), None),
-    ([0], 0), ((4,), 0), ([True], 0), ([1, False], 1), ([1, 2, None], 2), (["1", 1], 0), ([1, (1,), 2], 1),
-    ([1, 1, [1]], 2), ([-1], 0), ([GREAT], 0), ([1, 2, 3, 4, 0], 3), ([1] * 59 + [4], 59), ([4] * 60, 0),
-    ([1] * 30 + [0] + [9] * 29, 30), ([1.0], 0),
-)
-TOO_LONG = ([1] * 61, (2,) * 61, [1] * 60 + [9], [None] * 61, ("x",) * 1000)
 NO_NUMBERS = (True, False, None, "1", (1,), [1], {}, 1.0)
 
 
@@ -89,7 +81,7 @@ class PressTest(unittest.TestCase):
                 self.assertIs(caught.exception.value, letter)
 
 
-class WordsTest(unittest.TestCase):
+class WordsTest(RefusalCase):
 
     def calls(self, bonds):
         return (
@@ -100,30 +92,13 @@ class WordsTest(unittest.TestCase):
 
     def test_values_that_are_no_word(self):
         for call in self.calls(Bonds(TRIPLES[3])):
-            for word, place in NO_WORDS:
-                with self.subTest(word=word):
-                    with self.assertRaises(BadWord) as caught:
-                        call(word)
-                    self.assertEqual(caught.exception.place, place)
-
-    def test_too_many_letters(self):
-        for call in self.calls(Bonds(TRIPLES[3])):
-            for word in TOO_LONG:
-                with self.subTest(word=word):
-                    with self.assertRaises(TooGreat) as caught:
-                        call(word)
-                    self.assertEqual(caught.exception.most, 60)
+            self.refuses_no_words(call)
 
     def test_the_first_of_two_words_that_are_none(self):
         bonds = Bonds(PAIRS[3])
-        with self.assertRaises(BadWord) as caught:
-            alike(bonds, [1, 2, 3], None)
-        self.assertEqual(caught.exception.place, 2)
-        with self.assertRaises(TooGreat):
-            alike(bonds, [1] * 61, [0])
-        with self.assertRaises(BadWord) as caught:
-            alike(bonds, [0], [1] * 61)
-        self.assertEqual(caught.exception.place, 0)
+        self.refused(BadWord, lambda: alike(bonds, [1, 2, 3], None), place=2)
+        self.refused(TooGreat, lambda: alike(bonds, [1] * 61, [0]), most=60)
+        self.refused(BadWord, lambda: alike(bonds, [0], [1] * 61), place=0)
 
     def test_words_are_not_changed(self):
         bonds = Bonds(TRIPLES[2])
