@@ -2,6 +2,7 @@
 
 from bondwords.bonds import MOST_WORD, is_letter, is_whole
 from bondwords.errors import BadDeed, TooGreat
+from bondwords.named import name_of
 from bondwords.words import as_word
 
 # How many integers stand behind the name of each deed.
@@ -10,9 +11,8 @@ NUMBERS = {"in": 2, "out": 1, "turn": 1}
 
 def has_form(value):
     """Whether a value is a tuple of the name of a deed and as many integers as it has."""
-    if not isinstance(value, tuple) or len(value) == 0 or not isinstance(value[0], str):
-        return False
-    if NUMBERS.get(value[0]) != len(value) - 1:
+    name = name_of(value)
+    if name not in NUMBERS or NUMBERS[name] != len(value) - 1:
         return False
     return all([is_whole(number) for number in value[1:]])
 

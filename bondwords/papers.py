@@ -3,6 +3,7 @@
 from bondwords.bonds import is_letter, is_whole
 from bondwords.deeds import returned, walked
 from bondwords.errors import BadDeed, TooGreat
+from bondwords.named import name_of
 from bondwords.rows import row_of
 from bondwords.shortest import check_led, to_shortest, turns_between
 from bondwords.words import as_word
@@ -54,10 +55,9 @@ def is_paper(bonds, one, other, value):
     """Whether any value is a paper on two words."""
     letters = as_word(one, len(bonds))
     other_letters = as_word(other, len(bonds))
-    if not isinstance(value, tuple) or len(value) == 0 or not isinstance(value[0], str):
-        return False
-    if value[0] == "deeds":
+    name = name_of(value)
+    if name == "deeds":
         return len(value) == 2 and deeds_lead(bonds, letters, other_letters, value[1])
-    if value[0] == "letter":
+    if name == "letter":
         return len(value) == 4 and letter_parts(bonds, letters, other_letters, value[1], value[2:])
     return False

@@ -1,4 +1,4 @@
-"""What counts as a word."""
+"""What counts as a word, and the order in which words of different lengths are told."""
 
 from bondwords.bonds import MOST_WORD, is_letter
 from bondwords.errors import BadWord, TooGreat
@@ -14,3 +14,8 @@ def as_word(value, many):
         if not is_letter(item, many):
             raise BadWord(place)
     return tuple(value)
+
+
+def fewer_first(tuples):
+    """A list of tuples of letters, those with fewer letters first, else ascending."""
+    return sorted(tuples, key=lambda letters: (len(letters), letters))

@@ -2,8 +2,8 @@
 
 import unittest
 
-from bondwords.errors import BadWord, TooGreat
-from samples import NO_WORDS, TOO_LONG
+from bondwords.errors import BadChoice, BadWord, TooGreat
+from samples import NO_CHOICES, NO_WORDS, TOO_LONG
 
 
 class RefusalCase(unittest.TestCase):
@@ -23,3 +23,11 @@ class RefusalCase(unittest.TestCase):
         for word in TOO_LONG:
             with self.subTest(word=word):
                 self.refused(TooGreat, lambda: call(word), most=60)
+
+    def refuses_no_choices(self, call):
+        """That the call refuses all that is no choice of three letters, as point [41] tells."""
+        for choice in NO_CHOICES:
+            with self.subTest(choice=choice):
+                with self.assertRaises(BadChoice) as caught:
+                    call(choice)
+                self.assertIs(caught.exception.value, choice)

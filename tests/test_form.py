@@ -180,6 +180,51 @@ class FormTest(unittest.TestCase):
                         for arg in node.args:
                             self.assertNotIsInstance(arg, ast.GeneratorExp)
 
+    def test_decorators(self):
+        for file, text, tree in each():
+            for node in ast.walk(tree):
+                if isinstance(node, (ast.FunctionDef, ast.ClassDef)):
+                    for decorator in node.decorator_list:
+                        self.assertIsInstance(node, ast.FunctionDef)
+                        self.assertEqual(ast.unparse(decorator), "property", file)
+
+    def test_sets_are_sorted_on_the_spot(self):
+        for file, text, tree in each():
+            sorted_at_once = []
+            for node in ast.walk(tree):
+                if isinstance(node, ast.Call) and isinstance(node.func, ast.Name) and node.func.id in ("sorted", "len"):
+                    sorted_at_once += node.args
+            for node in ast.walk(tree):
+                makes_a_set = isinstance(node, ast.Call) and ast.unparse(node.func) in ("set", "frozenset")
+                if makes_a_set or isinstance(node, (ast.Set, ast.SetComp)):
+                    self.assertIn(node, sorted_at_once, file)
+
+    def test_generators(self):
+        """Each has a name of its own; none is called by the package, nor used as a value."""
+        generators = []
+        for file, text, tree in each():
+            for node in ast.walk(tree):
+                if isinstance(node, ast.FunctionDef):
+                    if any(isinstance(part, (ast.Yield, ast.YieldFrom)) for part in ast.walk(node)):
+                        generators.append(node.name)
+        self.assertEqual(sorted(generators), ["shortest_words", "words_below", "words_of"])
+        for file, text, tree in each():
+            used = [node.id for node in ast.walk(tree) if isinstance(node, ast.Name)]
+            used += [node.attr for node in ast.walk(tree) if isinstance(node, ast.Attribute)]
+            used += [alias.name for node in ast.walk(tree) if isinstance(node, ast.ImportFrom) for alias in node.names]
+            used += [node.arg for node in ast.walk(tree) if isinstance(node, ast.arg)]
+            self.assertEqual(set(used) & set(generators), set(), file)
+
+    def test_what_ends_a_block(self):
+        """An __exit__ assigns attributes and names, and does nothing else."""
+        for file, text, tree in each():
+            for node in ast.walk(tree):
+                if isinstance(node, ast.FunctionDef) and node.name == "__exit__":
+                    self.assertEqual([arg.arg for arg in node.args.args], ["self", "kind", "value", "trace"])
+                    for row in node.body:
+                        self.assertIsInstance(row, ast.Assign)
+                        self.assertRegex(ast.unparse(row), r"\Aself\.\w+\.\w+ = self\.\w+\Z")
+
 
 if __name__ == "__main__":
     unittest.main()

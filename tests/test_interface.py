@@ -17,6 +17,11 @@ METHODS = {
         "bond": ["self", "one", "other"], "weight": ["self", "one", "other"],
     }},
     "errors": {name: {"__init__": ["self", field]} if field else {} for name, field in ERRORS.items()},
+    "bench": {"Bench": {
+        "__init__": ["self", "bonds", "word"], "__len__": ["self"], "__eq__": ["self", "other"], "word": ["self"],
+        "deeds": ["self"], "do": ["self", "deed"], "do_all": ["self", "deeds"], "undo": ["self"], "redo": ["self"],
+        "needless": ["self"], "trial": ["self"],
+    }},
 }
 FUNCTIONS = {
     "rows": {
@@ -33,6 +38,32 @@ FUNCTIONS = {
         "turns_between": ["bonds", "one", "other"],
     },
     "papers": {"paper": ["bonds", "one", "other"], "is_paper": ["bonds", "one", "other", "value"]},
+    "lists": {
+        "count_shortest": ["bonds", "word"], "shortest_words": ["bonds", "word"],
+        "word_at": ["bonds", "word", "number"], "word_number": ["bonds", "word"],
+    },
+    "under": {
+        "is_below": ["bonds", "one", "other"], "is_just_below": ["bonds", "one", "other"],
+        "kept": ["bonds", "one", "other"], "words_below": ["bonds", "word"], "count_below": ["bonds", "word"],
+        "just_below": ["bonds", "word"],
+    },
+    "choices": {
+        "is_choice": ["bonds", "value"], "choices_of": ["bonds"], "is_ahead": ["bonds", "word", "choice"],
+        "is_behind": ["bonds", "word", "choice"], "is_within": ["bonds", "word", "choice"],
+        "parted": ["bonds", "word", "choice"], "parted_ahead": ["bonds", "word", "choice"],
+        "least_between": ["bonds", "left", "word", "right"],
+    },
+    "finite": {
+        "is_finite": ["bonds"], "witness": ["bonds"], "is_witness": ["bonds", "value"], "longest": ["bonds"],
+        "hangs_together": ["bonds", "choice"], "pieces": ["bonds"],
+    },
+    "counts": {
+        "count_of": ["bonds", "many"], "counts": ["bonds", "many"], "size": ["bonds"], "words_of": ["bonds", "many"],
+    },
+    "texts": {
+        "bonds_text": ["bonds"], "word_text": ["word"], "read_bonds": ["text"], "read_word": ["text"],
+    },
+    "bench": {"tried": ["bench", "function"]},
 }
 CONSTANTS = {"bonds": {"MOST_LETTERS": 6, "MOST_WORD": 60}, "shortest": {"MOST_LED": 16}}
 

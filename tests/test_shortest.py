@@ -6,31 +6,13 @@ from itertools import permutations
 from bondwords.bonds import Bonds
 from bondwords.deeds import walked
 from bondwords.errors import BadWord, TooGreat, Unlike
-from bondwords.rows import alike, firsts, lasts, length, press, row_of
+from bondwords.rows import alike, firsts, length, press, row_of
 from bondwords.shortest import MOST_LED, is_shortest, least_word, to_shortest, turns_between
 from refusals import RefusalCase
 from samples import (
-    BONDS, ONE, PAIRS, SIX, TRIPLES, led_to_each_other, shortest_alike, some_word, table, told_shrinking, words,
+    BONDS, LARGE, ONE, PAIRS, PATH_OF_SIX, SIX, TRIPLES, led_to_each_other, shortest_alike, shortest_word, some_word,
+    table, told_shrinking, words,
 )
-
-PATH_OF_SIX = table(6, b12=3, b23=3, b34=3, b45=3, b56=3)
-# Bonds of many kinds that have shortest words of 16 letters.
-LARGE = (
-    PATH_OF_SIX, SIX, PAIRS[0], TRIPLES[6], TRIPLES[7], TRIPLES[10],
-    table(6, b12=3, b23=3, b34=3, b45=3, b56=3, b16=3), table(6, b12=3, b23=3, b34=3, b45=3, b56=4),
-    table(6, b13=3, b34=3, b24=3, b45=3, b56=3), table(5, b12=3, b23=3, b34=3, b35=3),
-    table(4, b12=3, b23=4, b34=3), table(3, b12=6, b23=6, b13=6), table(3, b12=6, b23=3), table(6, b12=6, b34=6, b56=6),
-)
-
-
-def shortest_word(bonds, many, seed):
-    """A shortest word of so many letters, which there must be."""
-    word = ()
-    while len(word) < many:
-        higher = sorted(set(range(1, len(bonds) + 1)) - set(lasts(bonds, word)))
-        word += (higher[(seed * 7 + len(word) * seed + len(word) // 3) % len(higher)],)
-    return word
-
 
 def pressed_down(bonds, word, choose):
     """A shortest word that is alike: letters whose numbers are below 0 are pressed, as point [22] tells."""
